@@ -14,7 +14,7 @@ const MaxTotal = 256
 
 // BlocksValid reports whether blocks divide a memory with a number of words, total, in 1..MaxTotal: the first one begins with word 0, each has at least one word, every further one begins where the one before it ends, the last one ends with word total - 1, and no two neighbouring ones are both free.
 func BlocksValid(list []Block, total int) bool {
-	if !totalValid(total) {
+	if !wordsValid(total) {
 		return false
 	}
 	next := 0
@@ -31,14 +31,14 @@ func BlocksValid(list []Block, total int) bool {
 	return next == total
 }
 
-// totalValid reports whether a memory may have a number of words.
-func totalValid(total int) bool {
-	return total >= 1 && total <= MaxTotal
+// wordsValid reports whether a number of words, of a memory or of a block that is asked for, is in 1..MaxTotal.
+func wordsValid(words int) bool {
+	return words >= 1 && words <= MaxTotal
 }
 
 // NewBlocks returns the blocks of a memory with a number of words in 1..MaxTotal in which nothing is used: one free block; nil for other numbers.
 func NewBlocks(total int) []Block {
-	if !totalValid(total) {
+	if !wordsValid(total) {
 		return nil
 	}
 	return []Block{{Start: 0, Size: total}}
