@@ -10,6 +10,15 @@ import (
 // oddSizes are numbers of words that cannot be asked for.
 var oddSizes = append([]int{0}, oddNumbers...)
 
+// usedBlock and freeBlock keep the tables below short.
+func usedBlock(start, size int) impl.Block {
+	return impl.Block{Start: start, Size: size, Used: true}
+}
+
+func freeBlock(start, size int) impl.Block {
+	return impl.Block{Start: start, Size: size}
+}
+
 // mixedBlocks has free blocks of 2, 4, 3, 4, 3 and 2 words, the first and the last block among them.
 func mixedBlocks() []impl.Block {
 	return []impl.Block{
@@ -313,19 +322,17 @@ func TestGivenWordsAreFree(t *testing.T) {
 }
 
 func TestGiveBlockOfOneMemory(t *testing.T) {
-	used := func(start, size int) impl.Block { return impl.Block{Start: start, Size: size, Used: true} }
-	free := func(start, size int) impl.Block { return impl.Block{Start: start, Size: size} }
 	for _, c := range []changeCase{
-		{"between two free blocks", []impl.Block{free(0, 3), used(3, 2), free(5, 3)}, 1, 0, []impl.Block{free(0, 8)}},
-		{"between two used blocks", []impl.Block{used(0, 3), used(3, 2), used(5, 3)}, 1, 0, []impl.Block{used(0, 3), free(3, 2), used(5, 3)}},
-		{"behind a free block", []impl.Block{free(0, 3), used(3, 2), used(5, 3)}, 1, 0, []impl.Block{free(0, 5), used(5, 3)}},
-		{"before a free block", []impl.Block{used(0, 3), used(3, 2), free(5, 3)}, 1, 0, []impl.Block{used(0, 3), free(3, 5)}},
-		{"at the beginning, before a free block", []impl.Block{used(0, 3), free(3, 2), used(5, 3)}, 0, 0, []impl.Block{free(0, 5), used(5, 3)}},
-		{"at the beginning, before a used block", []impl.Block{used(0, 3), used(3, 5)}, 0, 0, []impl.Block{free(0, 3), used(3, 5)}},
-		{"at the end, behind a free block", []impl.Block{used(0, 3), free(3, 2), used(5, 3)}, 2, 0, []impl.Block{used(0, 3), free(3, 5)}},
-		{"at the end, behind a used block", []impl.Block{used(0, 3), used(3, 5)}, 1, 0, []impl.Block{used(0, 3), free(3, 5)}},
-		{"the whole memory", []impl.Block{used(0, 8)}, 0, 0, []impl.Block{free(0, 8)}},
-		{"free blocks farther away", []impl.Block{free(0, 1), used(1, 1), used(2, 2), used(4, 3), free(7, 1)}, 2, 0, []impl.Block{free(0, 1), used(1, 1), free(2, 2), used(4, 3), free(7, 1)}},
+		{"between two free blocks", []impl.Block{freeBlock(0, 3), usedBlock(3, 2), freeBlock(5, 3)}, 1, 0, []impl.Block{freeBlock(0, 8)}},
+		{"between two used blocks", []impl.Block{usedBlock(0, 3), usedBlock(3, 2), usedBlock(5, 3)}, 1, 0, []impl.Block{usedBlock(0, 3), freeBlock(3, 2), usedBlock(5, 3)}},
+		{"behind a free block", []impl.Block{freeBlock(0, 3), usedBlock(3, 2), usedBlock(5, 3)}, 1, 0, []impl.Block{freeBlock(0, 5), usedBlock(5, 3)}},
+		{"before a free block", []impl.Block{usedBlock(0, 3), usedBlock(3, 2), freeBlock(5, 3)}, 1, 0, []impl.Block{usedBlock(0, 3), freeBlock(3, 5)}},
+		{"at the beginning, before a free block", []impl.Block{usedBlock(0, 3), freeBlock(3, 2), usedBlock(5, 3)}, 0, 0, []impl.Block{freeBlock(0, 5), usedBlock(5, 3)}},
+		{"at the beginning, before a used block", []impl.Block{usedBlock(0, 3), usedBlock(3, 5)}, 0, 0, []impl.Block{freeBlock(0, 3), usedBlock(3, 5)}},
+		{"at the end, behind a free block", []impl.Block{usedBlock(0, 3), freeBlock(3, 2), usedBlock(5, 3)}, 2, 0, []impl.Block{usedBlock(0, 3), freeBlock(3, 5)}},
+		{"at the end, behind a used block", []impl.Block{usedBlock(0, 3), usedBlock(3, 5)}, 1, 0, []impl.Block{usedBlock(0, 3), freeBlock(3, 5)}},
+		{"the whole memory", []impl.Block{usedBlock(0, 8)}, 0, 0, []impl.Block{freeBlock(0, 8)}},
+		{"free blocks farther away", []impl.Block{freeBlock(0, 1), usedBlock(1, 1), usedBlock(2, 2), usedBlock(4, 3), freeBlock(7, 1)}, 2, 0, []impl.Block{freeBlock(0, 1), usedBlock(1, 1), freeBlock(2, 2), usedBlock(4, 3), freeBlock(7, 1)}},
 	} {
 		if got, ok := impl.GiveBlock(c.list, 8, c.number); !ok || !slices.Equal(got, c.want) {
 			t.Errorf("%s: GiveBlock(%v, 8, %d) = %v, %v, not %v", c.name, c.list, c.number, got, ok, c.want)
@@ -437,30 +444,40 @@ func resultsOfFits(list []impl.Block, total int) [][]impl.Block {
 	return results
 }
 
-// TestFitsShareNothing: no argument changes, not even when all results and the spare capacity behind them are overwritten, and neither does another result.
-func TestFitsShareNothing(t *testing.T) {
-	check := func(list []impl.Block, total int) {
-		whole := make([]impl.Block, len(list)+3)
-		fill(whole)
-		copy(whole, list)
-		before := slices.Clone(whole)
-		results := resultsOfFits(whole[:len(list)], total)
-		if !slices.Equal(whole, before) {
-			t.Fatalf("the blocks %v became %v", before, whole)
-		}
-		wanted := resultsOfFits(list, total)
-		for i, result := range results {
-			if !slices.Equal(result, wanted[i]) {
-				t.Fatalf("result %d of %v is %v, not %v", i, list, result, wanted[i])
-			}
-			fill(result[:cap(result)])
-		}
-		if !slices.Equal(whole, before) {
-			t.Fatalf("the blocks %v share memory with a result", before)
-		}
-	}
+// eachArgument calls check with valid blocks and with invalid ones.
+func eachArgument(check func(list []impl.Block, total int)) {
 	eachFitting(check)
 	for _, c := range invalidBlocks() {
 		check(c.list, c.total)
 	}
+}
+
+// checkSharesNothing fails if the calls that lead to results change their blocks or the spare capacity behind them, or if overwriting the results, with their spare capacity, changes the blocks or another result.
+func checkSharesNothing(t *testing.T, resultsOf func(list []impl.Block, total int) [][]impl.Block, list []impl.Block, total int) {
+	t.Helper()
+	whole := make([]impl.Block, len(list)+3)
+	fill(whole)
+	copy(whole, list)
+	before := slices.Clone(whole)
+	results := resultsOf(whole[:len(list)], total)
+	if !slices.Equal(whole, before) {
+		t.Fatalf("the blocks %v became %v", before, whole)
+	}
+	wanted := resultsOf(list, total)
+	for i, result := range results {
+		if !slices.Equal(result, wanted[i]) {
+			t.Fatalf("result %d of %v is %v, not %v", i, list, result, wanted[i])
+		}
+		fill(result[:cap(result)])
+	}
+	if !slices.Equal(whole, before) {
+		t.Fatalf("the blocks %v share memory with a result", before)
+	}
+}
+
+// TestFitsShareNothing: no argument changes, not even when all results are overwritten, and neither does another result.
+func TestFitsShareNothing(t *testing.T) {
+	eachArgument(func(list []impl.Block, total int) {
+		checkSharesNothing(t, resultsOfFits, list, total)
+	})
 }
