@@ -87,10 +87,15 @@ func (o Command) canSetData(h Heap) bool {
 	return h.Roots[o.A] != -1
 }
 
+// madeCell returns the cell that OpNew makes.
+func (o Command) madeCell() Cell {
+	return Cell{Used: true, Data: o.C, Refs: slices.Repeat([]int{-1}, o.B)}
+}
+
 // newCell executes OpNew on a heap with room for a further cell.
 func (o Command) newCell(h *Heap) {
 	h.Roots[o.A] = len(h.Cells)
-	h.Cells = append(h.Cells, Cell{Used: true, Data: o.C, Refs: slices.Repeat([]int{-1}, o.B)})
+	h.Cells = append(h.Cells, o.madeCell())
 }
 
 // getRef executes OpGet.
@@ -160,6 +165,18 @@ func StepHeap(h Heap, o Command) (Heap, bool) {
 		return next, false
 	}
 	p.execute(o, &next)
+	return next, true
+}
+
+// stepReusing returns what StepHeap returns for a valid heap and a valid instruction, but OpNew uses the first cell that is not used, if there is one: it has no room only if all of MaxCells cells are used.
+func stepReusing(h Heap, o Command) (Heap, bool) {
+	place := usedSet(h.Cells).firstOutside()
+	if o.Op != OpNew || place == len(h.Cells) {
+		return StepHeap(h, o)
+	}
+	next := cloneHeap(h)
+	next.Cells[place] = o.madeCell()
+	next.Roots[o.A] = place
 	return next, true
 }
 

@@ -878,6 +878,14 @@ func fillCells(list []impl.Cell) {
 	}
 }
 
+// withSpare returns a copy of a list with spare capacity that is filled, which is the second result together with it.
+func withSpare(list []int) ([]int, []int) {
+	whole := make([]int, len(list)+3)
+	fillNumbers(whole)
+	copy(whole, list)
+	return whole[:len(list)], whole
+}
+
 // spareHeap is a heap whose slices have spare capacity, and the same slices with their spare capacity.
 type spareHeap struct {
 	heap  impl.Heap
@@ -889,11 +897,9 @@ type spareHeap struct {
 func spareOf(h impl.Heap) spareHeap {
 	var s spareHeap
 	spare := func(list []int) []int {
-		whole := make([]int, len(list)+3)
-		fillNumbers(whole)
-		copy(whole, list)
+		part, whole := withSpare(list)
 		s.lists = append(s.lists, whole)
-		return whole[:len(list)]
+		return part
 	}
 	s.cells = make([]impl.Cell, len(h.Cells)+3)
 	fillCells(s.cells)

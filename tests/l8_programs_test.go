@@ -993,12 +993,15 @@ func TestStepsInHeapsThatShareMemory(t *testing.T) {
 	}
 }
 
-// overwriteHeap overwrites all slices of a result, with their spare capacity, and fails if two of them share memory.
-func overwriteHeap(t *testing.T, h impl.Heap) {
+// overwriteHeap overwrites all slices of a result, which is a heap and other lists, with their spare capacity, and fails if two of them share memory.
+func overwriteHeap(t *testing.T, h impl.Heap, others ...[]int) {
 	t.Helper()
-	lists := [][]int{h.Roots[:cap(h.Roots)]}
+	lists := append([][]int{h.Roots}, others...)
 	for _, c := range h.Cells {
-		lists = append(lists, c.Refs[:cap(c.Refs)])
+		lists = append(lists, c.Refs)
+	}
+	for k, list := range lists {
+		lists[k] = list[:cap(list)]
 	}
 	for k, list := range lists {
 		for i := range list {
@@ -1079,16 +1082,21 @@ func TestLaterStepsChangeNothing(t *testing.T) {
 	}
 }
 
-// checkProgramSharesNothing fails if a program changes while it runs, or if overwriting the heap after it changes it or another result.
-func checkProgramSharesNothing(t *testing.T, list []impl.Command) {
-	t.Helper()
+// withSpareCommands returns a copy of a program with spare capacity that is filled, which is the second result together with it.
+func withSpareCommands(list []impl.Command) ([]impl.Command, []impl.Command) {
 	whole := make([]impl.Command, len(list)+3)
 	copy(whole, list)
 	for k := len(list); k < len(whole); k++ {
 		whole[k] = impl.Command{Op: -7, A: -7, B: -7, C: -7}
 	}
+	return whole[:len(list)], whole
+}
+
+// checkProgramSharesNothing fails if a program changes while it runs, or if overwriting the heap after it changes it or another result.
+func checkProgramSharesNothing(t *testing.T, list []impl.Command) {
+	t.Helper()
+	part, whole := withSpareCommands(list)
 	before := slices.Clone(whole)
-	part := whole[:len(list)]
 	impl.CommandsValid(part)
 	h, other := impl.RunHeap(part), impl.RunHeap(part)
 	want := copyOf(h)

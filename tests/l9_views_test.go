@@ -1170,11 +1170,8 @@ func TestViewsShareNothing(t *testing.T) {
 // checkListSharesNothing fails if HeapOf changes a list or its spare capacity, or if overwriting its result, with the spare capacity, changes the list or another result.
 func checkListSharesNothing(t *testing.T, list []int) {
 	t.Helper()
-	whole := make([]int, len(list)+3)
-	fillNumbers(whole)
-	copy(whole, list)
+	part, whole := withSpare(list)
 	before := slices.Clone(whole)
-	part := whole[:len(list)]
 	h, ok := impl.HeapOf(part)
 	other, _ := impl.HeapOf(part)
 	want := copyOf(h)
