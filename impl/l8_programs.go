@@ -87,15 +87,18 @@ func (o Command) canSetData(h Heap) bool {
 	return h.Roots[o.A] != -1
 }
 
-// madeCell returns the cell that OpNew makes.
-func (o Command) madeCell() Cell {
-	return Cell{Used: true, Data: o.C, Refs: slices.Repeat([]int{-1}, o.B)}
+// newCellAt executes OpNew with a place for the new cell: that of one that is not used, or the place behind the last one.
+func (o Command) newCellAt(h *Heap, place int) {
+	if place == len(h.Cells) {
+		h.Cells = append(h.Cells, Cell{})
+	}
+	h.Cells[place] = Cell{Used: true, Data: o.C, Refs: slices.Repeat([]int{-1}, o.B)}
+	h.Roots[o.A] = place
 }
 
 // newCell executes OpNew on a heap with room for a further cell.
 func (o Command) newCell(h *Heap) {
-	h.Roots[o.A] = len(h.Cells)
-	h.Cells = append(h.Cells, o.madeCell())
+	o.newCellAt(h, len(h.Cells))
 }
 
 // getRef executes OpGet.
@@ -175,8 +178,7 @@ func stepReusing(h Heap, o Command) (Heap, bool) {
 		return StepHeap(h, o)
 	}
 	next := cloneHeap(h)
-	next.Cells[place] = o.madeCell()
-	next.Roots[o.A] = place
+	o.newCellAt(&next, place)
 	return next, true
 }
 

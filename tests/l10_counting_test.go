@@ -864,19 +864,11 @@ func TestInvalidInstructionsWithCounts(t *testing.T) {
 	}
 }
 
-// P57: programs that are too long, or have an invalid instruction, wherever it stands, have no heap with counts.
-func TestInvalidProgramsWithCounts(t *testing.T) {
+// eachInvalidProgram calls check with programs that are too long, and with such that have an invalid instruction, wherever it stands.
+func eachInvalidProgram(check func(list []impl.Command)) {
 	for _, o := range []impl.Command{opNew(0, 3, 0), opGet(0, 0, 0), opSet(0, 0, 0), opCopy(0, 0), opDrop(0), opData(0, 0)} {
-		for many := range 140 {
-			list := slices.Repeat([]impl.Command{o}, many)
-			if many <= 40 {
-				checkCountedProgram(t, list)
-			} else {
-				checkNoCountedProgram(t, list)
-			}
-		}
-		for _, many := range []int{256, 257, 1 << 16, 100000} {
-			checkNoCountedProgram(t, slices.Repeat([]impl.Command{o}, many))
+		for _, many := range append(rangeOf(impl.MaxCommands+1, 139), 256, 257, 1<<16, 100000) {
+			check(slices.Repeat([]impl.Command{o}, many))
 		}
 	}
 	odd := oddCommands()
@@ -886,12 +878,22 @@ func TestInvalidProgramsWithCounts(t *testing.T) {
 			other := slices.Clone(list)
 			for _, o := range odd {
 				other[k] = o
-				checkNoCountedProgram(t, other)
+				check(other)
 			}
 		}
 	}
-	checkNoCountedProgram(t, make([]impl.Command, 1))
-	checkNoCountedProgram(t, make([]impl.Command, impl.MaxCommands+1))
+	check(make([]impl.Command, 1))
+	check(make([]impl.Command, impl.MaxCommands+1))
+}
+
+// P57: programs that are too long, or have an invalid instruction, wherever it stands, have no heap with counts.
+func TestInvalidProgramsWithCounts(t *testing.T) {
+	eachInvalidProgram(func(list []impl.Command) { checkNoCountedProgram(t, list) })
+	for _, o := range []impl.Command{opNew(0, 3, 0), opGet(0, 0, 0), opSet(0, 0, 0), opCopy(0, 0), opDrop(0), opData(0, 0)} {
+		for many := range impl.MaxCommands + 1 {
+			checkCountedProgram(t, slices.Repeat([]impl.Command{o}, many))
+		}
+	}
 }
 
 // TestCountsReturnForAllNumbers: for every number of an instruction, a root, a reference, Data or a count the functions return what the chapter gives.

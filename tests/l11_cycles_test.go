@@ -891,29 +891,31 @@ func validHeapsOfAllSizes() []impl.Heap {
 	return all
 }
 
+// eachOtherLength calls check with lists of flags that are shorter or longer than one list: such that begin like it, and such that are all false or all true.
+func eachOtherLength(flags []bool, check func(other []bool)) {
+	for many := range 140 {
+		if many != len(flags) {
+			check(make([]bool, many))
+			check(slices.Repeat([]bool{true}, many))
+			check(slices.Concat(flags, make([]bool, 140))[:many])
+		}
+	}
+	if len(flags) > 0 {
+		check(nil)
+		check(flags[1:])
+		check(slices.Concat(flags, flags))
+	}
+	for _, many := range []int{256, 1 << 16, 100000} {
+		check(make([]bool, many))
+		check(append(make([]bool, many), true))
+	}
+}
+
 // P59: a set has one element for every cell: one that is nil, too short or too long has no trial counts, whatever is in it.
 func TestSetsOfOtherLengths(t *testing.T) {
 	for _, h := range validHeapsOfAllSizes() {
-		cells, used := len(h.Cells), usedFlags(h)
-		for many := range 140 {
-			if many == cells {
-				checkTrialCounts(t, h, used)
-				continue
-			}
-			checkNoCounts(t, h, make([]bool, many))
-			checkNoCounts(t, h, slices.Repeat([]bool{true}, many))
-			checkNoCounts(t, h, slices.Concat(used, make([]bool, 140))[:many])
-		}
-		if cells > 0 {
-			checkNoCounts(t, h, nil)
-			checkNoCounts(t, h, used[:cells-1])
-			checkNoCounts(t, h, used[1:])
-			checkNoCounts(t, h, slices.Concat(used, used))
-		}
-		for _, many := range []int{256, 1 << 16, 100000} {
-			checkNoCounts(t, h, make([]bool, many))
-			checkNoCounts(t, h, append(make([]bool, many), true))
-		}
+		checkTrialCounts(t, h, usedFlags(h))
+		eachOtherLength(usedFlags(h), func(set []bool) { checkNoCounts(t, h, set) })
 	}
 }
 
